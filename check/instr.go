@@ -5,11 +5,19 @@ import (
 	"fettle/arith"
 )
 
-// asked is what an operation asks for: its arguments' types, and its Dst's,
-// TypeNone where it has none.
+// asked is what an operation asks for: how many arguments, their types, and
+// its Dst's, TypeNone where it has none. How many there are stands by itself,
+// since a function that is called may have parameters that are no registers,
+// and so are of no type.
 type asked struct {
+	many int
 	args []int
 	dst  int
+}
+
+// asks is what an operation asks for whose arguments all have a type.
+func asks(dst int, args ...int) asked {
+	return asked{many: len(args), args: args, dst: dst}
 }
 
 // ofInstr is what the rules 5 and 6 say of an instruction.
@@ -18,7 +26,7 @@ func ofInstr(m api.Module, f api.Func, in api.Instr) error {
 	if err != nil {
 		return err
 	}
-	if len(in.Args) != len(want.args) {
+	if len(in.Args) != want.many {
 		return api.ErrShape
 	}
 	if !areAt(in.Args, len(f.Regs)) {
@@ -37,41 +45,38 @@ func ofInstr(m api.Module, f api.Func, in api.Instr) error {
 func askedOf(m api.Module, f api.Func, in api.Instr) (asked, error) {
 	switch in.Op {
 	case api.OpConst:
-		return asked{dst: constType(f, in)}, nil
+		return asks(constType(f, in)), nil
 	case api.OpCopy:
 		t := copyType(f, in)
-		return asked{args: []int{t}, dst: t}, nil
+		return asks(t, t), nil
 	case api.OpLt, api.OpEq:
-		return asked{args: ints(2), dst: api.TypeBool}, nil
+		return asks(api.TypeBool, api.TypeInt, api.TypeInt), nil
 	case api.OpNot:
-		return asked{args: []int{api.TypeBool}, dst: api.TypeBool}, nil
+		return asks(api.TypeBool, api.TypeBool), nil
 	case api.OpLoad:
-		return asked{args: ints(1), dst: api.TypeInt}, nil
+		return asks(api.TypeInt, api.TypeInt), nil
 	case api.OpStore:
-		return asked{args: ints(2)}, nil
+		return asks(api.TypeNone, api.TypeInt, api.TypeInt), nil
 	case api.OpOut:
-		return asked{args: ints(1)}, nil
+		return asks(api.TypeNone, api.TypeInt), nil
 	case api.OpCall:
 		return askedOfCall(m, in.Fun)
 	}
 	if n, known := arith.Args(in.Op); known {
-		return asked{args: ints(n), dst: api.TypeInt}, nil
+		return asks(api.TypeInt, ints(n)...), nil
 	}
 	return asked{}, api.ErrShape
 }
 
 // askedOfCall is what a call of a function asks for. That function needn't
-// be proper: its parameters are told from its registers only where they are
-// among them, so this comes ahead of how many Args there are.
+// be proper: of its parameters only those have a type that are registers.
 func askedOfCall(m api.Module, fun int) (asked, error) {
 	if !isAt(fun, len(m.Funcs)) {
 		return asked{}, api.ErrNone
 	}
 	g := m.Funcs[fun]
-	if g.Params < 0 || g.Params > len(g.Regs) {
-		return asked{}, api.ErrType
-	}
-	return asked{args: g.Regs[:g.Params], dst: g.Result}, nil
+	typed := max(0, min(g.Params, len(g.Regs)))
+	return asked{many: g.Params, args: g.Regs[:typed], dst: g.Result}, nil
 }
 
 // constType is the type that a constant's Dst has to be of: a bool only
@@ -101,9 +106,13 @@ func ints(n int) []int {
 	return list
 }
 
-// fits tells whether an instruction whose registers are there is of the
-// types asked for, with nothing that its operation has no use for.
+// fits tells whether an instruction whose registers are there, and that has
+// as many Args as it must, is of the types asked for, with nothing that its
+// operation has no use for. No Arg fits a parameter that is of no type.
 func fits(f api.Func, in api.Instr, want asked) bool {
+	if len(want.args) != want.many {
+		return false
+	}
 	for i, a := range in.Args {
 		if f.Regs[a] != want.args[i] {
 			return false

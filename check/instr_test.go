@@ -230,15 +230,98 @@ func TestCallOfNone(t *testing.T) {
 	}
 }
 
-// P2.1: calls of functions that have fewer registers than parameters, or
-// fewer parameters than none. What else is amiss behind Fun doesn't matter:
-// there is nothing to hold it against.
+// ofOddCall is the order of the chapter, for a call of a function with more
+// parameters than registers, or fewer than none: ErrType comes last.
+func ofOddCall(args []int, params int, dstIsMissing bool) api.Code {
+	if len(args) != params {
+		return api.ErrShape
+	}
+	for _, reg := range args {
+		if reg < 0 || reg > 5 {
+			return api.ErrNone
+		}
+	}
+	if dstIsMissing {
+		return api.ErrNone
+	}
+	return api.ErrType
+}
+
+// oddArgs are lists of so many Args: all there, or all but one.
+func oddArgs(many int) [][]int {
+	lists := [][]int{make([]int, many)}
+	for at := range many {
+		for _, reg := range append([]int{3, 5, 6, 9}, far...) {
+			list := make([]int, many)
+			list[at] = reg
+			lists = append(lists, list)
+		}
+	}
+	return lists
+}
+
+// wantOddCall wants it of a call of function 2, which has two registers, and
+// so many parameters.
+func wantOddCall(t *testing.T, args []int, params int) {
+	t.Helper()
+	for _, result := range []int{api.TypeNone, api.TypeInt} {
+		for _, dst := range []int{-1, 0, 3, 6} {
+			for imm := range int64(2) {
+				m := about(api.Instr{Op: api.OpCall, Dst: dst, Args: args, Imm: imm, Fun: 2})
+				m.Funcs[2].Params, m.Funcs[2].Result = params, result
+				missing := result != api.TypeNone && (dst < 0 || dst > 5)
+				what := fmt.Sprint(params, " parameters, ", args, ", result ", result, ", Dst ", dst)
+				wantFunc(t, what, m, ofOddCall(args, params, missing))
+			}
+		}
+	}
+}
+
+// P2.1, R1: calls of functions that have fewer registers than parameters, or
+// fewer parameters than none, whatever else is amiss or isn't.
 func TestCallOfOddParams(t *testing.T) {
-	for _, params := range append([]int{3, 4, 9}, far...) {
-		for _, args := range [][]int{nil, {0}, {0, 3}, {0, 3, 1}, {0, 3, 1, 1}, {9}} {
-			m := about(api.Instr{Op: api.OpCall, Dst: -1, Args: args, Fun: 2})
-			m.Funcs[2].Params = params
-			wantFunc(t, fmt.Sprint(params, " parameters, ", args), m, api.ErrType)
+	for _, params := range append([]int{3, 4, 8, 9, 10, -3}, far...) {
+		for many := range 12 {
+			for _, args := range oddArgs(many) {
+				wantOddCall(t, args, params)
+			}
+		}
+	}
+}
+
+// P2.1, R1: the same of a function without registers, behind the caller and
+// ahead of it.
+func TestCallOfOddParamsWithoutRegisters(t *testing.T) {
+	for _, c := range []struct {
+		params int
+		args   []int
+		want   api.Code
+	}{
+		{1, nil, api.ErrShape}, {1, []int{0, 0}, api.ErrShape}, {1, []int{5}, api.ErrNone},
+		{1, []int{-1}, api.ErrNone}, {1, []int{0}, api.ErrType}, {2, []int{0, 0}, api.ErrType},
+		{2, []int{0, 5}, api.ErrNone}, {2, []int{5}, api.ErrShape},
+		{-1, nil, api.ErrShape}, {-1, []int{0}, api.ErrShape}, {-1, []int{5}, api.ErrShape},
+	} {
+		what := fmt.Sprint(c.params, " parameters, ", c.args)
+		caller, callee := quiet(1), quiet(0)
+		callee.Params = c.params
+		caller.Blocks[0].Ins = []api.Instr{{Op: api.OpCall, Dst: -1, Args: c.args, Fun: 1}}
+		wantFunc(t, what, module(caller, callee), c.want)
+		caller.Blocks[0].Ins[0].Fun = 0
+		wantItself(t, what, Func(module(callee, caller), 1), c.want)
+		wantFunc(t, what+", called", module(callee, caller), api.ErrType)
+	}
+}
+
+// P2.1: a function that calls itself, and whose parameters are at fault, is
+// told so by rule 2, ahead of the call.
+func TestCallOfItselfWithOddParams(t *testing.T) {
+	for _, params := range append([]int{2, 3, 9}, far...) {
+		for many := range 4 {
+			f := quiet(1)
+			f.Params = params
+			f.Blocks[0].Ins = []api.Instr{{Op: api.OpCall, Dst: -1, Args: make([]int, many)}}
+			wantFunc(t, fmt.Sprint(params, " parameters, ", many, " Args"), module(f), api.ErrType)
 		}
 	}
 }
