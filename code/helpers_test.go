@@ -8,6 +8,14 @@ import (
 
 	"fettle/api"
 	"fettle/code"
+	"fettle/sample"
+)
+
+// What modules are built of here.
+var (
+	module, quiet, sum     = sample.Module, sample.Quiet, sample.Sum
+	jump, branch, giveBack = sample.Jump, sample.Branch, sample.GiveBack
+	constant, ints         = sample.Constant, sample.Ints
 )
 
 // piece is one number of a module's bytes. Where it is how many a list has,
@@ -126,37 +134,6 @@ func refused(t *testing.T, what string, b []byte, at int, want api.Code) {
 	}
 }
 
-func module(l ...api.Func) api.Module { return api.Module{Funcs: l} }
-
-func jump(to ...int) api.Term { return api.Term{Kind: api.TermJump, Arg: -1, To: to} }
-
-func branch(arg int, to ...int) api.Term {
-	return api.Term{Kind: api.TermBranch, Arg: arg, To: to}
-}
-
-func giveBack(arg int) api.Term { return api.Term{Kind: api.TermReturn, Arg: arg} }
-
-func constant(dst int, imm int64) api.Instr {
-	return api.Instr{Op: api.OpConst, Dst: dst, Imm: imm}
-}
-
-// ints are so many registers, all of them ints.
-func ints(n int) []int { return slices.Repeat([]int{api.TypeInt}, n) }
-
-// sum adds up the numbers below its parameter.
-func sum() api.Func {
-	return api.Func{Params: 1, Result: api.TypeInt, Regs: []int{1, 1, 1, 1, 2}, Blocks: []api.Block{
-		{Term: jump(1)},
-		{Ins: []api.Instr{{Op: api.OpLt, Dst: 4, Args: []int{1, 0}}}, Term: branch(4, 2, 3)},
-		{Ins: []api.Instr{
-			constant(3, 1),
-			{Op: api.OpAdd, Dst: 2, Args: []int{2, 1}},
-			{Op: api.OpAdd, Dst: 1, Args: []int{1, 3}},
-		}, Term: jump(1)},
-		{Term: giveBack(2)},
-	}}
-}
-
 // round counts up to its parameter by a phi, and puts out each number.
 func round() api.Func {
 	return api.Func{Params: 1, Result: api.TypeInt, Regs: []int{1, 1, 1, 1, 2, 1}, Blocks: []api.Block{
@@ -172,11 +149,6 @@ func round() api.Func {
 		}, Term: jump(1)},
 		{Term: giveBack(2)},
 	}}
-}
-
-// quiet is a function that does nothing, of so many registers.
-func quiet(regs int) api.Func {
-	return api.Func{Regs: ints(regs), Blocks: []api.Block{{Term: giveBack(-1)}}}
 }
 
 // all is a module of all operations, kinds of ends and types.

@@ -10,6 +10,7 @@ import (
 	"fettle/api"
 	"fettle/check"
 	"fettle/run"
+	"fettle/sample"
 )
 
 // oracle does what the chapter tells, written out here once more in another
@@ -152,145 +153,6 @@ func reckoned(op int, a, b int64) int64 {
 	return is[a == b]
 }
 
-// maker makes functions of any blocks, that may call all of a list.
-type maker struct {
-	*rand.Rand
-	heads []api.Func
-	f     api.Func
-}
-
-// reg is any register of a type.
-func (k *maker) reg(typ int) int {
-	for {
-		if r := k.Intn(len(k.f.Regs)); k.f.Regs[r] == typ {
-			return r
-		}
-	}
-}
-
-// to is any block but the first, and but one.
-func (k *maker) to(but int) int {
-	for {
-		if to := 1 + k.Intn(len(k.f.Blocks)-1); to != but {
-			return to
-		}
-	}
-}
-
-// head is a function's parameters, result and registers: of each type some
-// at least, the last but two an int.
-func (k *maker) head() api.Func {
-	f := api.Func{Params: k.Intn(4), Result: k.Intn(3), Regs: []int{}}
-	for range 4 + k.Intn(8) {
-		f.Regs = append(f.Regs, 1+k.Intn(2))
-	}
-	f.Regs = append(f.Regs, 1, 2, 1, 2, 1)
-	return f
-}
-
-// calling is a call of any function.
-func (k *maker) calling() api.Instr {
-	fun := k.Intn(len(k.heads))
-	in := call(fun, -1)
-	for _, typ := range k.heads[fun].Regs[:k.heads[fun].Params] {
-		in.Args = append(in.Args, k.reg(typ))
-	}
-	if typ := k.heads[fun].Result; typ != api.TypeNone {
-		in.Dst = k.reg(typ)
-	}
-	return in
-}
-
-// instrs are any instruction, and what it needs. Words are loaded and stored most often at a
-// constant of just before, so that not all of them trap.
-func (k *maker) instrs() []api.Instr {
-	a, b, c := k.reg(1), k.reg(1), k.reg(1)
-	small := constant(a, int64(k.Intn(66)))
-	switch k.Intn(24) {
-	case 0:
-		return []api.Instr{constant(a, int64(k.Uint64())>>k.Intn(64))}
-	case 1:
-		return []api.Instr{constant(k.reg(2), int64(k.Intn(2)))}
-	case 2:
-		return []api.Instr{small, load(b, a)}
-	case 3:
-		return []api.Instr{small, store(a, b)}
-	case 4:
-		return []api.Instr{out(a)}
-	case 5:
-		return []api.Instr{k.calling()}
-	case 6:
-		return []api.Instr{op(api.OpLt+k.Intn(2), k.reg(2), a, b)}
-	case 7:
-		return []api.Instr{op(api.OpNot, k.reg(2), k.reg(2)), op(api.OpCopy, k.reg(2), k.reg(2))}
-	case 8:
-		return []api.Instr{small, op(api.OpDiv, c, b, a), op(api.OpCopy, b, c)}[k.Intn(8)/7:]
-	case 9:
-		if k.Intn(4) == 0 {
-			return []api.Instr{load(c, b), op(api.OpDiv, b, c, a)}[k.Intn(2):]
-		}
-	}
-	return []api.Instr{op(api.OpAdd+k.Intn(8), c, a, b)}
-}
-
-// counted ends a block by how often such ends were come to: so a loop ends,
-// but not at once.
-func (k *maker) counted(b *api.Block) {
-	n := len(k.f.Regs) - 3 // an int: see head
-	limit, truth := k.reg(1), k.reg(2)
-	b.Ins = append(b.Ins, constant(limit, 1), op(api.OpAdd, n, n, limit),
-		constant(limit, int64(k.Intn(40))), op(api.OpLt, truth, n, limit))
-	first := k.to(-1)
-	b.Term = branch(truth, first, k.to(first))
-}
-
-// fill gives a function its blocks.
-func (k *maker) fill(f api.Func) api.Func {
-	k.f = f
-	k.f.Blocks = make([]api.Block, 3+k.Intn(9))
-	for i := range k.f.Blocks {
-		b := &k.f.Blocks[i]
-		for range k.Intn(4) {
-			b.Ins = append(b.Ins, k.instrs()...)
-		}
-		first := k.to(-1)
-		back := -1
-		if f.Result != api.TypeNone {
-			back = k.reg(f.Result)
-		}
-		b.Term = []api.Term{giveBack(back), jump(first), branch(k.reg(2), first, k.to(first))}[k.Intn(3)]
-		if i != 2 && k.Intn(3) > 0 {
-			k.counted(b)
-		}
-	}
-	for i, ahead := range check.Ahead(k.f) {
-		for range k.Intn(4) {
-			p := api.Phi{Dst: k.reg(1 + k.Intn(2))}
-			if slices.ContainsFunc(k.f.Blocks[i].Phis, func(q api.Phi) bool { return q.Dst == p.Dst }) {
-				continue
-			}
-			for range ahead {
-				p.Args = append(p.Args, k.reg(k.f.Regs[p.Dst]))
-			}
-			k.f.Blocks[i].Phis = append(k.f.Blocks[i].Phis, p)
-		}
-	}
-	return k.f
-}
-
-// anyModule is a proper module of any functions.
-func anyModule(r *rand.Rand) api.Module {
-	k := &maker{Rand: r}
-	for range 1 + r.Intn(4) {
-		k.heads = append(k.heads, k.head())
-	}
-	var m api.Module
-	for _, f := range k.heads {
-		m.Funcs = append(m.Funcs, k.fill(f))
-	}
-	return m
-}
-
 // anyArgs are arguments that a function may be entered with.
 func anyArgs(r *rand.Rand, f api.Func) []int64 {
 	args := make([]int64, f.Params)
@@ -308,7 +170,7 @@ func each(t *testing.T, seed int64, by func(what string, r *rand.Rand, m api.Mod
 	t.Helper()
 	r := rand.New(rand.NewSource(seed))
 	for i := range 3000 {
-		m := anyModule(r)
+		m := sample.Any(r.Intn)
 		if err := check.Module(m); err != nil {
 			t.Fatalf("module %d: %v", i, err)
 		}

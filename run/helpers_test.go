@@ -6,70 +6,18 @@ import (
 
 	"fettle/api"
 	"fettle/run"
+	"fettle/sample"
 )
 
-func module(l ...api.Func) api.Module { return api.Module{Funcs: l} }
-
-func jump(to ...int) api.Term { return api.Term{Kind: api.TermJump, Arg: -1, To: to} }
-
-func branch(arg int, to ...int) api.Term {
-	return api.Term{Kind: api.TermBranch, Arg: arg, To: to}
-}
-
-func giveBack(arg int) api.Term { return api.Term{Kind: api.TermReturn, Arg: arg} }
-
-func constant(dst int, imm int64) api.Instr {
-	return api.Instr{Op: api.OpConst, Dst: dst, Imm: imm}
-}
-
-// op is an instruction of any operation but OpConst and OpCall.
-func op(op, dst int, args ...int) api.Instr { return api.Instr{Op: op, Dst: dst, Args: args} }
-
-func out(reg int) api.Instr { return op(api.OpOut, -1, reg) }
-
-func load(dst, at int) api.Instr { return op(api.OpLoad, dst, at) }
-
-func store(at, what int) api.Instr { return op(api.OpStore, -1, at, what) }
-
-func call(fun, dst int, args ...int) api.Instr {
-	return api.Instr{Op: api.OpCall, Dst: dst, Args: args, Fun: fun}
-}
-
-func block(end api.Term, ins ...api.Instr) api.Block { return api.Block{Ins: ins, Term: end} }
-
-// ints are so many registers, all of them ints.
-func ints(n int) []int { return slices.Repeat([]int{api.TypeInt}, n) }
-
-// function is one of these blocks, over registers of these types, that
-// returns one of a type.
-func function(params, result int, regs []int, blocks ...api.Block) api.Func {
-	return api.Func{Params: params, Result: result, Regs: regs, Blocks: blocks}
-}
-
-// straight is a function of one block over so many ints, that returns one.
-func straight(params, regs, back int, ins ...api.Instr) api.Func {
-	return function(params, api.TypeInt, ints(regs), block(giveBack(back), ins...))
-}
-
-// quiet is a function that does nothing, of so many registers.
-func quiet(regs int) api.Func {
-	return function(0, api.TypeNone, ints(regs), block(giveBack(-1)))
-}
-
-// sum adds up the numbers below its parameter.
-func sum() api.Func {
-	return function(1, api.TypeInt, []int{1, 1, 1, 1, 2},
-		block(jump(1)),
-		block(branch(4, 2, 3), op(api.OpLt, 4, 1, 0)),
-		block(jump(1), constant(3, 1), op(api.OpAdd, 2, 2, 1), op(api.OpAdd, 1, 1, 3)),
-		block(giveBack(2)),
-	)
-}
-
-// endless goes round without an end, in a step each time.
-func endless() api.Func {
-	return function(0, api.TypeNone, nil, block(jump(1)), block(jump(1)))
-}
+// What modules are built of here.
+var (
+	module, function, straight = sample.Module, sample.Function, sample.Straight
+	quiet, sum, endless        = sample.Quiet, sample.Sum, sample.Endless
+	block, ints                = sample.Block, sample.Ints
+	jump, branch, giveBack     = sample.Jump, sample.Branch, sample.GiveBack
+	constant, op, call         = sample.Constant, sample.Op, sample.Call
+	out, load, store           = sample.Out, sample.Load, sample.Store
+)
 
 // done is what comes of a run that returned, or trapped.
 func done(value int64, steps int, out ...int64) api.Outcome {
