@@ -105,27 +105,27 @@ func wantOf(m api.Module) answers {
 
 // P1, P9.1, P9.2: what is answered of any modules.
 func TestAny(t *testing.T) {
-	seen := tally{}
+	seen := sample.Tally{}
 	each(1, func(what string, m api.Module) {
 		want := wantOf(m)
 		is(t, what, m, want)
-		seen.add("no functions", len(m.Funcs) == 0)
-		seen.add("all alone", len(m.Funcs) > 3 && len(want.rings) == len(m.Funcs))
-		seen.add("five waves", len(want.waves) > 4)
-		seen.add("a function that calls four", slices.ContainsFunc(want.calls, func(l []int) bool { return len(l) > 3 }))
-		seen.add("proper", len(m.Funcs) > 0 && check.Module(m) == nil)
-		seen.add("not proper", check.Module(m) != nil)
+		seen.Add("no functions", len(m.Funcs) == 0)
+		seen.Add("all alone", len(m.Funcs) > 3 && len(want.rings) == len(m.Funcs))
+		seen.Add("five waves", len(want.waves) > 4)
+		seen.Add("a function that calls four", slices.ContainsFunc(want.calls, func(l []int) bool { return len(l) > 3 }))
+		seen.Add("proper", len(m.Funcs) > 0 && check.Module(m) == nil)
+		seen.Add("not proper", check.Module(m) != nil)
 		apart := 0
 		for _, ring := range want.rings {
 			if len(ring) > 1 {
 				apart++
 			}
-			seen.add("a ring of four", len(ring) > 3)
-			seen.add("not side by side", ring[len(ring)-1]-ring[0] >= len(ring))
+			seen.Add("a ring of four", len(ring) > 3)
+			seen.Add("not side by side", ring[len(ring)-1]-ring[0] >= len(ring))
 		}
-		seen.add("two rings of two", apart > 1)
+		seen.Add("two rings of two", apart > 1)
 	})
-	seen.enough(t, "no functions", "all alone", "five waves", "a function that calls four",
+	seen.Enough(t, "no functions", "all alone", "five waves", "a function that calls four",
 		"proper", "not proper", "a ring of four", "not side by side", "two rings of two")
 }
 
@@ -170,7 +170,7 @@ func TestOneEach(t *testing.T) {
 // P9.4: a function of a wave calls none of a later one, and of its own just
 // those of its ring; and P9.2: each wave but the first calls the one ahead.
 func TestWavesFollow(t *testing.T) {
-	seen := tally{}
+	seen := sample.Tally{}
 	each(3, func(what string, m api.Module) {
 		called, waves := calls.Calls(m), calls.Waves(m)
 		wave := map[int]int{}
@@ -188,8 +188,8 @@ func TestWavesFollow(t *testing.T) {
 							t.Errorf("%s: %d calls %d: %v", what, f, g, waves)
 						}
 						near = near || wave[g] == w-1
-						seen.add("of its ring", wave[g] == w)
-						seen.add("far below", wave[g] < w-1)
+						seen.Add("of its ring", wave[g] == w)
+						seen.Add("far below", wave[g] < w-1)
 					}
 				}
 				if !near {
@@ -198,13 +198,13 @@ func TestWavesFollow(t *testing.T) {
 			}
 		}
 	})
-	seen.enough(t, "of its ring", "far below")
+	seen.Enough(t, "of its ring", "far below")
 }
 
 // P9.3, R2: what is handed in stays as it is.
 func TestHandedInStays(t *testing.T) {
 	each(4, func(what string, m api.Module) {
-		was := copyOf(m)
+		was := sample.CopyModule(m)
 		calls.Calls(m)
 		unchanged(t, what+", Calls", m, was)
 		calls.Rings(m)
@@ -235,7 +235,7 @@ func fillAll(lists [][]int) {
 // was handed in nor what was told before; nor does the other way round.
 func TestToldIsNew(t *testing.T) {
 	each(5, func(what string, m api.Module) {
-		was := copyOf(m)
+		was := sample.CopyModule(m)
 		before := answersOf(m)
 		told := fmt.Sprint(before)
 		after := answersOf(m)
@@ -357,7 +357,7 @@ func TestManyAny(t *testing.T) {
 func TestElse(t *testing.T) {
 	each(8, func(what string, m api.Module) {
 		want := answersOf(m)
-		n := copyOf(m)
+		n := sample.CopyModule(m)
 		for f := range n.Funcs {
 			n.Funcs[f].Params, n.Funcs[f].Result, n.Funcs[f].Regs = -1, 9, nil
 			for b := range n.Funcs[f].Blocks {

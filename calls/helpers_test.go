@@ -83,15 +83,6 @@ func wave(rings ...[]int) [][]int { return rings }
 // ring are a ring's functions.
 func ring(funs ...int) []int { return funs }
 
-// copyOf is a module that shares nothing with m.
-func copyOf(m api.Module) api.Module {
-	var c api.Module
-	for _, f := range m.Funcs {
-		c.Funcs = append(c.Funcs, sample.Copy(f))
-	}
-	return c
-}
-
 // unchanged holds that a module is as it was.
 func unchanged(t *testing.T, what string, m, was api.Module) {
 	t.Helper()
@@ -147,22 +138,4 @@ func anyCalls(r *rand.Rand) api.Module {
 // isn't reached.
 func twoBlocks(l []int, at int) api.Func {
 	return api.Func{Blocks: slices.Concat(calling(l[:at]...).Blocks, calling(l[at:]...).Blocks)}
-}
-
-// tally counts what any modules were like, so that none of it is missed.
-type tally map[string]int
-
-func (n tally) add(what string, is bool) {
-	if is {
-		n[what]++
-	}
-}
-
-func (n tally) enough(t *testing.T, of ...string) {
-	t.Helper()
-	for _, what := range of {
-		if n[what] < 100 {
-			t.Error("too few ", what, ": ", n)
-		}
-	}
 }

@@ -93,47 +93,29 @@ func wantOf(f api.Func) answers {
 	return want
 }
 
-// tally counts what any functions were like, so that none of it is missed.
-type tally map[string]int
-
-func (n tally) add(what string, is bool) {
-	if is {
-		n[what]++
-	}
-}
-
-func (n tally) enough(t *testing.T, of ...string) {
-	t.Helper()
-	for _, what := range of {
-		if n[what] < 100 {
-			t.Error("too few ", what, ": ", n)
-		}
-	}
-}
-
 // P1, P6.1, P6.2: what is answered of any functions.
 func TestAny(t *testing.T) {
-	seen := tally{}
+	seen := sample.Tally{}
 	each(1, func(what string, f api.Func) {
 		want := wantOf(f)
 		is(t, what, f, want)
-		seen.add("no blocks", len(want.nearest) == 0)
+		seen.Add("no blocks", len(want.nearest) == 0)
 		for b, by := range want.nearest {
 			reached := want.dominates[b][b]
-			seen.add("not reached", !reached)
-			seen.add("reached, with no nearest", reached && by < 0)
-			seen.add("nearest 0", by == 0)
-			seen.add("nearest another one, ahead", by > 0 && by < b)
-			seen.add("nearest another one, behind", by > b)
-			seen.add("a nearest that doesn't lead to it", by >= 0 && !slices.Contains(graph.Next(f)[by], b))
-			seen.add("an empty frontier", reached && len(want.frontier[b]) == 0)
-			seen.add("a frontier of many", len(want.frontier[b]) > 2)
-			seen.add("in its own frontier", slices.Contains(want.frontier[b], b))
-			seen.add("under it many", len(want.under[b]) > 2)
+			seen.Add("not reached", !reached)
+			seen.Add("reached, with no nearest", reached && by < 0)
+			seen.Add("nearest 0", by == 0)
+			seen.Add("nearest another one, ahead", by > 0 && by < b)
+			seen.Add("nearest another one, behind", by > b)
+			seen.Add("a nearest that doesn't lead to it", by >= 0 && !slices.Contains(graph.Next(f)[by], b))
+			seen.Add("an empty frontier", reached && len(want.frontier[b]) == 0)
+			seen.Add("a frontier of many", len(want.frontier[b]) > 2)
+			seen.Add("in its own frontier", slices.Contains(want.frontier[b], b))
+			seen.Add("under it many", len(want.under[b]) > 2)
 		}
-		seen.add("block 0 in a frontier", len(want.frontier) > 0 && slices.Contains(want.frontier[0], 0))
+		seen.Add("block 0 in a frontier", len(want.frontier) > 0 && slices.Contains(want.frontier[0], 0))
 	})
-	seen.enough(t, "no blocks", "not reached", "reached, with no nearest", "nearest 0", "nearest another one, ahead",
+	seen.Enough(t, "no blocks", "not reached", "reached, with no nearest", "nearest 0", "nearest another one, ahead",
 		"nearest another one, behind", "a nearest that doesn't lead to it", "an empty frontier", "a frontier of many",
 		"in its own frontier", "under it many", "block 0 in a frontier")
 }

@@ -140,27 +140,9 @@ func argsOf(b api.Block) []int {
 	return l
 }
 
-// tally counts what any functions were like, so that none of it is missed.
-type tally map[string]int
-
-func (n tally) add(what string, is bool) {
-	if is {
-		n[what]++
-	}
-}
-
-func (n tally) enough(t *testing.T, of ...string) {
-	t.Helper()
-	for _, what := range of {
-		if n[what] < 100 {
-			t.Error("too few ", what, ": ", n)
-		}
-	}
-}
-
 // P1, P5.1, P5.2: what is answered of any functions.
 func TestAny(t *testing.T) {
-	seen := tally{}
+	seen := sample.Tally{}
 	eachOdd(t, 1, func(what string, f api.Func) {
 		leads(t, what, f, nextOf(f)...)
 		order := orderOf(f)
@@ -170,21 +152,21 @@ func TestAny(t *testing.T) {
 		}
 		g, numbers := trimOf(f)
 		trimmedTo(t, what, f, g, numbers...)
-		seen.add("all reached", len(order) == len(f.Blocks))
-		seen.add("some reached", len(order) > 2 && len(order) < len(f.Blocks))
-		seen.add("no blocks", len(f.Blocks) == 0)
-		seen.add("in another order", !slices.IsSorted(order))
+		seen.Add("all reached", len(order) == len(f.Blocks))
+		seen.Add("some reached", len(order) > 2 && len(order) < len(f.Blocks))
+		seen.Add("no blocks", len(f.Blocks) == 0)
+		seen.Add("in another order", !slices.IsSorted(order))
 		for b, to := range numbers {
-			seen.add("phis that lost Args", to >= 0 && len(argsOf(g.Blocks[to])) < len(argsOf(f.Blocks[b])))
+			seen.Add("phis that lost Args", to >= 0 && len(argsOf(g.Blocks[to])) < len(argsOf(f.Blocks[b])))
 		}
 	})
 	eachProper(t, 2, func(what string, _ *rand.Rand, m api.Module, f int) {
 		g, numbers := trimOf(m.Funcs[f])
 		trimmedTo(t, what, m.Funcs[f], g, numbers...)
 		comesIn(t, what, m.Funcs[f], orderOf(m.Funcs[f])...)
-		seen.add("trimmed", len(g.Blocks) < len(numbers))
+		seen.Add("trimmed", len(g.Blocks) < len(numbers))
 	})
-	seen.enough(t, "all reached", "some reached", "no blocks", "in another order", "phis that lost Args", "trimmed")
+	seen.Enough(t, "all reached", "some reached", "no blocks", "in another order", "phis that lost Args", "trimmed")
 }
 
 // P5.4: the order begins with block 0, and has each block that is reached
@@ -226,7 +208,7 @@ func TestTrimmedTwice(t *testing.T) {
 
 // P5.4: a function of a proper module stays proper, and does the same.
 func TestDoesTheSame(t *testing.T) {
-	seen := tally{}
+	seen := sample.Tally{}
 	eachProper(t, 5, func(what string, r *rand.Rand, m api.Module, f int) {
 		g, _ := graph.Trim(m.Funcs[f])
 		n := api.Module{Funcs: slices.Clone(m.Funcs)}
@@ -245,11 +227,11 @@ func TestDoesTheSame(t *testing.T) {
 			if err != nil || err2 != nil || !same(got, want) {
 				t.Errorf("%s: function %d, with %d steps: %v, %v, want %v, %v", what, i, steps, got, err2, want, err)
 			}
-			seen.add("done", want.Done)
-			seen.add("not done", !want.Done)
+			seen.Add("done", want.Done)
+			seen.Add("not done", !want.Done)
 		}
 	})
-	seen.enough(t, "done", "not done")
+	seen.Enough(t, "done", "not done")
 }
 
 // P5.3, R2: what is handed in stays as it is.

@@ -112,7 +112,7 @@ func has(l []int, reg int) bool { return slices.Contains(l, reg) }
 
 // P8.1: what is told of the functions of any proper modules.
 func TestAny(t *testing.T) {
-	seen := tally{}
+	seen := sample.Tally{}
 	eachProper(2, func(what string, r *rand.Rand, m api.Module, f int) {
 		fn := m.Funcs[f]
 		want := wantOf(fn)
@@ -126,17 +126,17 @@ func TestAny(t *testing.T) {
 			for reg := range fn.Regs {
 				uses, makes := doesWithin(fn.Blocks[b], reg)
 				phis := isMadeByPhis(fn.Blocks[b], reg)
-				seen.add("used", uses && has(l.beginning, reg) && !has(l.end, reg))
-				seen.add("through", !uses && has(l.beginning, reg) && has(l.end, reg))
-				seen.add("made, wanted behind", makes && has(l.end, reg))
-				seen.add("made for nothing", makes && !has(l.end, reg))
-				seen.add("phis make it, used", phis && uses)
-				seen.add("phis make it, wanted behind", phis && !uses && !makes && has(l.end, reg))
-				seen.add("neither", !has(l.beginning, reg) && !has(l.end, reg))
+				seen.Add("used", uses && has(l.beginning, reg) && !has(l.end, reg))
+				seen.Add("through", !uses && has(l.beginning, reg) && has(l.end, reg))
+				seen.Add("made, wanted behind", makes && has(l.end, reg))
+				seen.Add("made for nothing", makes && !has(l.end, reg))
+				seen.Add("phis make it, used", phis && uses)
+				seen.Add("phis make it, wanted behind", phis && !uses && !makes && has(l.end, reg))
+				seen.Add("neither", !has(l.beginning, reg) && !has(l.end, reg))
 			}
 		}
 	})
-	seen.enough(t, "used", "through", "made, wanted behind", "made for nothing", "phis make it, used",
+	seen.Enough(t, "used", "through", "made, wanted behind", "made for nothing", "phis make it, used",
 		"phis make it, wanted behind", "neither")
 }
 
@@ -228,7 +228,7 @@ func between(f api.Func, block int, ins []api.Instr) api.Func {
 // P8.3: a register that isn't wanted at a block's end may have any value there,
 // and the function does the same.
 func TestMayBeAnything(t *testing.T) {
-	seen := tally{}
+	seen := sample.Tally{}
 	eachProper(3, func(what string, r *rand.Rand, m api.Module, f int) {
 		fn := m.Funcs[f]
 		var args []int64
@@ -250,19 +250,19 @@ func TestMayBeAnything(t *testing.T) {
 			n := api.Module{Funcs: slices.Clone(m.Funcs)}
 			n.Funcs[f] = between(fn, b, ins)
 			got, err := run.Run(n, f, args, api.MaxRun)
-			seen.add("other ways gone", got.Steps > want.Steps+1)
+			seen.Add("other ways gone", got.Steps > want.Steps+1)
 			got.Steps = want.Steps
 			if err != nil || fmt.Sprint(got) != fmt.Sprint(want) {
 				t.Errorf("%s, block %d: %v, %v, want %v", what, b, got, err, want)
 			}
 		}
 	})
-	seen.enough(t, "other ways gone")
+	seen.Enough(t, "other ways gone")
 }
 
 // P8.3: what isn't named is wanted nowhere.
 func TestNotNamed(t *testing.T) {
-	seen := tally{}
+	seen := sample.Tally{}
 	eachProper(4, func(what string, r *rand.Rand, m api.Module, f int) {
 		count, err := live.Count(m, f)
 		if err != nil {
@@ -273,17 +273,17 @@ func TestNotNamed(t *testing.T) {
 				if n == 0 && (has(l.beginning, reg) || has(l.end, reg)) {
 					t.Errorf("%s: register %d isn't named, but wanted at block %d", what, reg, b)
 				}
-				seen.add("not named", n == 0)
+				seen.Add("not named", n == 0)
 			}
 		}
 	})
-	seen.enough(t, "not named")
+	seen.Enough(t, "not named")
 }
 
 // P8.2, R2: what is handed in stays as it is.
 func TestHandedInStays(t *testing.T) {
 	eachProper(5, func(what string, r *rand.Rand, m api.Module, f int) {
-		was := copyOf(m)
+		was := sample.CopyModule(m)
 		live.Live(m, f)
 		unchanged(t, what+", Live", m, was)
 		live.Count(m, f)
@@ -292,7 +292,7 @@ func TestHandedInStays(t *testing.T) {
 	r := rand.New(rand.NewSource(6))
 	for range 3000 {
 		m := module(sample.Odd(r.Intn))
-		was := copyOf(m)
+		was := sample.CopyModule(m)
 		live.Live(m, 0)
 		live.Count(m, 0)
 		unchanged(t, "any function", m, was)
@@ -311,7 +311,7 @@ func turn(l []bool) {
 // was handed in nor what is told elsewhere, nor another list of the same answer.
 func TestToldIsNew(t *testing.T) {
 	eachProper(7, func(what string, r *rand.Rand, m api.Module, f int) {
-		was := copyOf(m)
+		was := sample.CopyModule(m)
 		beginning, end, _ := live.Live(m, f)
 		count, _ := live.Count(m, f)
 		before := fmt.Sprint(beginning, end, count)

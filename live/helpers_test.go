@@ -88,15 +88,6 @@ func named(t *testing.T, what string, m api.Module, want ...int) {
 	}
 }
 
-// copyOf is a module that shares nothing with m.
-func copyOf(m api.Module) api.Module {
-	var c api.Module
-	for _, f := range m.Funcs {
-		c.Funcs = append(c.Funcs, sample.Copy(f))
-	}
-	return c
-}
-
 // unchanged holds that a module is as it was.
 func unchanged(t *testing.T, what string, m, was api.Module) {
 	t.Helper()
@@ -112,24 +103,6 @@ func eachProper(seed int64, by func(what string, r *rand.Rand, m api.Module, f i
 		m := sample.Any(r.Intn)
 		for f := range m.Funcs {
 			by(fmt.Sprintf("module %d, function %d", i, f), r, m, f)
-		}
-	}
-}
-
-// tally counts what any functions were like, so that none of it is missed.
-type tally map[string]int
-
-func (n tally) add(what string, is bool) {
-	if is {
-		n[what]++
-	}
-}
-
-func (n tally) enough(t *testing.T, of ...string) {
-	t.Helper()
-	for _, what := range of {
-		if n[what] < 100 {
-			t.Error("too few ", what, ": ", n)
 		}
 	}
 }

@@ -300,7 +300,7 @@ func TestNotProper(t *testing.T) {
 // P1, P8.1: any functions, proper or not, are told or refused.
 func TestOdd(t *testing.T) {
 	r := rand.New(rand.NewSource(1))
-	seen := tally{}
+	seen := sample.Tally{}
 	for i := range 6000 {
 		m := module(sample.Odd(r.Intn))
 		if r.Intn(2) == 0 {
@@ -308,8 +308,8 @@ func TestOdd(t *testing.T) {
 		}
 		if check.Module(m) != nil {
 			refused(t, fmt.Sprint("module ", i), m, r.Intn(4)-1)
-			seen.add("refused", true)
+			seen.Add("refused", true)
 		}
 	}
-	seen.enough(t, "refused")
+	seen.Enough(t, "refused")
 }

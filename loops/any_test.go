@@ -112,47 +112,29 @@ func wantOf(f api.Func) answers {
 	return want
 }
 
-// tally counts what any functions were like, so that none of it is missed.
-type tally map[string]int
-
-func (n tally) add(what string, is bool) {
-	if is {
-		n[what]++
-	}
-}
-
-func (n tally) enough(t *testing.T, of ...string) {
-	t.Helper()
-	for _, what := range of {
-		if n[what] < 100 {
-			t.Error("too few ", what, ": ", n)
-		}
-	}
-}
-
 // P1, P7.1, P7.2: what is answered of any functions.
 func TestAny(t *testing.T) {
-	seen := tally{}
+	seen := sample.Tally{}
 	each(1, func(what string, f api.Func) {
 		want := wantOf(f)
 		is(t, what, f, want)
-		seen.add("no blocks", len(want.depth) == 0)
-		seen.add("no loops, clean", len(want.depth) > 0 && len(want.loops) == 0 && want.clean)
-		seen.add("no loops, not clean", len(want.loops) == 0 && !want.clean)
-		seen.add("loops, clean", len(want.loops) > 0 && want.clean)
-		seen.add("loops, not clean", len(want.loops) > 0 && !want.clean)
-		seen.add("three loops deep", slices.Contains(want.depth, 3))
+		seen.Add("no blocks", len(want.depth) == 0)
+		seen.Add("no loops, clean", len(want.depth) > 0 && len(want.loops) == 0 && want.clean)
+		seen.Add("no loops, not clean", len(want.loops) == 0 && !want.clean)
+		seen.Add("loops, clean", len(want.loops) > 0 && want.clean)
+		seen.Add("loops, not clean", len(want.loops) > 0 && !want.clean)
+		seen.Add("three loops deep", slices.Contains(want.depth, 3))
 		for _, l := range want.loops {
-			seen.add("head 0", l.Head == 0)
-			seen.add("one block", len(l.Blocks) == 1)
-			seen.add("many blocks", len(l.Blocks) > 4)
-			seen.add("a block below the head", l.Blocks[0] < l.Head)
-			seen.add("no entries, not block 0", len(l.Entries) == 0 && l.Head > 0)
-			seen.add("many entries", len(l.Entries) > 2)
-			seen.add("entered from behind", len(l.Entries) > 0 && slices.Max(l.Entries) > l.Head)
+			seen.Add("head 0", l.Head == 0)
+			seen.Add("one block", len(l.Blocks) == 1)
+			seen.Add("many blocks", len(l.Blocks) > 4)
+			seen.Add("a block below the head", l.Blocks[0] < l.Head)
+			seen.Add("no entries, not block 0", len(l.Entries) == 0 && l.Head > 0)
+			seen.Add("many entries", len(l.Entries) > 2)
+			seen.Add("entered from behind", len(l.Entries) > 0 && slices.Max(l.Entries) > l.Head)
 		}
 	})
-	seen.enough(t, "no blocks", "no loops, clean", "no loops, not clean", "loops, clean", "loops, not clean",
+	seen.Enough(t, "no blocks", "no loops, clean", "no loops, not clean", "loops, clean", "loops, not clean",
 		"three loops deep", "head 0", "one block", "many blocks", "a block below the head", "many entries", "entered from behind")
 	if seen["no entries, not block 0"] > 0 {
 		t.Error("a head that is reached, but isn't block 0, has an entry: ", seen)

@@ -29,6 +29,30 @@ func Any(pick Pick) api.Module {
 	return m
 }
 
+// Plain is a plain module of any functions.
+func Plain(pick Pick) api.Module {
+	m := Any(pick)
+	for _, f := range m.Funcs {
+		for i := range f.Blocks {
+			f.Blocks[i].Phis = nil
+		}
+	}
+	return m
+}
+
+// Args are arguments that a function may be entered with.
+func Args(pick Pick, f api.Func) []int64 {
+	k := &maker{pick: pick}
+	args := make([]int64, f.Params)
+	for i := range args {
+		args[i] = int64(pick(2))
+		if f.Regs[i] == api.TypeInt && pick(2) == 0 {
+			args[i] = k.number()
+		}
+	}
+	return args
+}
+
 // head is a function's parameters, result and registers: of each type some
 // at least, the last but two an int.
 func (k *maker) head() api.Func {

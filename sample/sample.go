@@ -115,3 +115,12 @@ func Copy(f api.Func) api.Func {
 	}
 	return g
 }
+
+// CopyModule is a module that shares nothing with m.
+func CopyModule(m api.Module) api.Module {
+	var c api.Module
+	for _, f := range m.Funcs {
+		c.Funcs = append(c.Funcs, Copy(f))
+	}
+	return c
+}
