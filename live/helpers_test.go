@@ -19,16 +19,8 @@ var (
 	jump, branch, giveBack     = sample.Jump, sample.Branch, sample.GiveBack
 	constant, op, call         = sample.Constant, sample.Op, sample.Call
 	out, load, store           = sample.Out, sample.Load, sample.Store
+	phi, withPhis              = sample.Phi, sample.WithPhis
 )
-
-// withPhis is a block with phis.
-func withPhis(b api.Block, phis ...api.Phi) api.Block {
-	b.Phis = phis
-	return b
-}
-
-// phi is one.
-func phi(dst int, args ...int) api.Phi { return api.Phi{Dst: dst, Args: args} }
 
 // at are the registers that are wanted at a block's beginning, and at its end.
 type at struct{ beginning, end []int }

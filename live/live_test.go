@@ -1,7 +1,6 @@
 package live_test
 
 import (
-	"errors"
 	"fmt"
 	"math"
 	"math/rand"
@@ -220,15 +219,6 @@ func TestWhichFunc(t *testing.T) {
 	refused(t, "as many as there may be", m, api.MaxFuncs)
 }
 
-// sameError tells whether an error is such a Code itself, or such a Spot.
-func sameError(got, want error) bool {
-	var a, b *api.Spot
-	if errors.As(got, &a) && errors.As(want, &b) {
-		return *a == *b
-	}
-	return got == want
-}
-
 // refused holds that a function isn't told: by check.Module's error, if it has
 // one, else by ErrArg, itself; and nothing beside it.
 func refused(t *testing.T, what string, m api.Module, f int) {
@@ -238,24 +228,19 @@ func refused(t *testing.T, what string, m api.Module, f int) {
 		want = api.ErrArg
 	}
 	beginning, end, err := live.Live(m, f)
-	if !sameError(err, want) || beginning != nil || end != nil {
+	if !sample.SameError(err, want) || beginning != nil || end != nil {
 		t.Errorf("%s, function %d: Live: %v, %v, %v, want %v alone", what, f, beginning, end, err, want)
 	}
 	count, err := live.Count(m, f)
-	if !sameError(err, want) || count != nil {
+	if !sample.SameError(err, want) || count != nil {
 		t.Errorf("%s, function %d: Count: %v, %v, want %v alone", what, f, count, err, want)
 	}
-}
-
-// beyond are numbers of no function of so many.
-func beyond(many int) []int {
-	return []int{-1, -2, math.MinInt, many, many + 1, 1 << 40, math.MaxInt}
 }
 
 // P8.1, R3: no such function.
 func TestNoSuchFunc(t *testing.T) {
 	for _, m := range []api.Module{{}, {Funcs: []api.Func{}}, module(sample.Sum()), module(sample.Quiet(2), sample.Sum(), sample.Endless())} {
-		for _, f := range beyond(len(m.Funcs)) {
+		for _, f := range sample.Beyond(len(m.Funcs)) {
 			refused(t, fmt.Sprint(len(m.Funcs), " functions"), m, f)
 		}
 	}
@@ -287,12 +272,12 @@ func TestNotProper(t *testing.T) {
 			if check.Module(m) == nil {
 				t.Error(w.what, " is proper")
 			}
-			for _, f := range append(beyond(len(m.Funcs)), 0, len(m.Funcs)-1) {
+			for _, f := range append(sample.Beyond(len(m.Funcs)), 0, len(m.Funcs)-1) {
 				refused(t, w.what, m, f)
 			}
 		}
 	}
-	for _, f := range append(beyond(len(big.Funcs)), 0, 7, len(big.Funcs)-1) {
+	for _, f := range append(sample.Beyond(len(big.Funcs)), 0, 7, len(big.Funcs)-1) {
 		refused(t, "too many functions", big, f)
 	}
 }

@@ -12,6 +12,13 @@ import (
 // Module is one of these functions.
 func Module(l ...api.Func) api.Module { return api.Module{Funcs: l} }
 
+// With is a module with another function in the f-th one's place.
+func With(m api.Module, f int, g api.Func) api.Module {
+	n := Module(slices.Clone(m.Funcs)...)
+	n.Funcs[f] = g
+	return n
+}
+
 // Function is one of these blocks, over registers of these types.
 func Function(params, result int, regs []int, blocks ...api.Block) api.Func {
 	return api.Func{Params: params, Result: result, Regs: regs, Blocks: blocks}
@@ -19,6 +26,15 @@ func Function(params, result int, regs []int, blocks ...api.Block) api.Func {
 
 // Block is one without phis.
 func Block(end api.Term, ins ...api.Instr) api.Block { return api.Block{Ins: ins, Term: end} }
+
+// WithPhis is a block with these phis.
+func WithPhis(b api.Block, phis ...api.Phi) api.Block {
+	b.Phis = phis
+	return b
+}
+
+// Phi is one.
+func Phi(dst int, args ...int) api.Phi { return api.Phi{Dst: dst, Args: args} }
 
 // Ints are so many registers, all of them ints.
 func Ints(n int) []int { return slices.Repeat([]int{api.TypeInt}, n) }

@@ -41,9 +41,7 @@ type teller struct {
 func tellerOf(m api.Module, f int) *teller {
 	k := &teller{}
 	k.f, _ = graph.Trim(m.Funcs[f])
-	trimmed := module(slices.Clone(m.Funcs)...)
-	trimmed.Funcs[f] = k.f
-	k.wanted, _, _ = live.Live(trimmed, f)
+	k.wanted, _, _ = live.Live(sample.With(m, f, k.f), f)
 	k.next, k.dominates, k.nearest = graph.Next(k.f), dom.Dominates(k.f), dom.Nearest(k.f)
 	return k
 }
@@ -247,13 +245,6 @@ func TestAllOfFour(t *testing.T) {
 	})
 }
 
-// made is a module with a function in the f-th one's place.
-func made(m api.Module, f int, g api.Func) api.Module {
-	n := module(slices.Clone(m.Funcs)...)
-	n.Funcs[f] = g
-	return n
-}
-
 // eachBuilt goes through what any functions are built to that don't get too
 // large.
 func eachBuilt(seed int64, by func(what string, r *rand.Rand, m api.Module, f int, g api.Func)) {
@@ -277,7 +268,7 @@ func TestStaysProper(t *testing.T) {
 				t.Errorf("%s: block %d ends with %v, want %v", what, b, got, end.Term)
 			}
 		}
-		if err := check.Module(made(m, f, g)); err != nil {
+		if err := check.Module(sample.With(m, f, g)); err != nil {
 			t.Errorf("%s: not proper: %v", what, err)
 		}
 	})
@@ -305,7 +296,7 @@ func doesTheSame(t *testing.T, what string, m, n api.Module, f int, args []int64
 func TestDoesTheSame(t *testing.T) {
 	seen := sample.Tally{}
 	eachBuilt(3, func(what string, r *rand.Rand, m api.Module, f int, g api.Func) {
-		n := made(m, f, g)
+		n := sample.With(m, f, g)
 		for from := range m.Funcs {
 			was, o := doesTheSame(t, fmt.Sprintf("%s, from %d", what, from), m, n, from, sample.Args(r.Intn, m.Funcs[from]))
 			seen.Add("done", o.Done)
@@ -328,7 +319,7 @@ func TestAllBuilt(t *testing.T) {
 		n := m
 		for f := range m.Funcs {
 			if g, err := ssa.Build(m, f); err == nil {
-				n = made(n, f, g)
+				n = sample.With(n, f, g)
 			}
 		}
 		for f := range m.Funcs {

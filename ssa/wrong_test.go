@@ -11,15 +11,10 @@ import (
 	"fettle/sample"
 )
 
-// beyond are numbers of no function of so many.
-func beyond(many int) []int {
-	return []int{-1, -2, math.MinInt, many, many + 1, 1 << 40, math.MaxInt}
-}
-
 // P12.1, R3: no such function.
 func TestNoSuchFunc(t *testing.T) {
 	for _, m := range []api.Module{{}, {Funcs: []api.Func{}}, module(sample.Sum()), module(sample.Quiet(2), sample.Sum(), sample.Endless())} {
-		for _, f := range beyond(len(m.Funcs)) {
+		for _, f := range sample.Beyond(len(m.Funcs)) {
 			refused(t, fmt.Sprint(len(m.Funcs), " functions"), m, f, api.ErrArg)
 		}
 	}
@@ -62,13 +57,13 @@ func TestNotPlain(t *testing.T) {
 			if want == nil {
 				t.Error("plain: ", i)
 			}
-			for _, f := range append(beyond(len(m.Funcs)), 0, len(m.Funcs)-1) {
+			for _, f := range append(sample.Beyond(len(m.Funcs)), 0, len(m.Funcs)-1) {
 				refused(t, fmt.Sprint("not plain ", i), m, f, want)
 			}
 		}
 	}
 	many := module(slices.Repeat([]api.Func{sample.Quiet(1)}, api.MaxFuncs+1)...)
-	for _, f := range append(beyond(len(many.Funcs)), 0, 7, len(many.Funcs)-1) {
+	for _, f := range append(sample.Beyond(len(many.Funcs)), 0, 7, len(many.Funcs)-1) {
 		refused(t, "too many functions", many, f, api.ErrLarge)
 	}
 }
