@@ -130,50 +130,6 @@ func wantOf(m api.Module, n int) error {
 	return nil
 }
 
-// registersOf are where a block's registers stand that are made or named.
-func registersOf(b *api.Block) []*int {
-	var regs []*int
-	several := func(l []int) {
-		for i := range l {
-			regs = append(regs, &l[i])
-		}
-	}
-	for i := range b.Phis {
-		regs = append(regs, &b.Phis[i].Dst)
-		several(b.Phis[i].Args)
-	}
-	for i := range b.Ins {
-		regs = append(regs, &b.Ins[i].Dst)
-		several(b.Ins[i].Args)
-	}
-	regs = append(regs, &b.Term.Arg)
-	return slices.DeleteFunc(regs, func(r *int) bool { return *r < 0 })
-}
-
-// change changes a function in any one place: a register to another one of its
-// type, the order of two instructions, whether one is there, or where a block
-// leads to. What comes of it may not be proper.
-func change(r *rand.Rand, f api.Func) {
-	b := &f.Blocks[r.Intn(len(f.Blocks))]
-	i, regs := r.Intn(1+len(b.Ins)), registersOf(b)
-	switch kind := r.Intn(12); {
-	case kind == 0 && len(b.Term.To) == 2:
-		b.Term = jump(b.Term.To[r.Intn(2)])
-	case kind == 1 && i < len(b.Ins):
-		b.Ins = slices.Delete(b.Ins, i, i+1)
-	case kind < 4 && i < len(b.Ins) && i > 0:
-		b.Ins[i-1], b.Ins[i] = b.Ins[i], b.Ins[i-1]
-	case len(regs) > 0:
-		reg := regs[r.Intn(len(regs))]
-		for was := *reg; ; {
-			*reg = r.Intn(1 + r.Intn(len(f.Regs))) // most often low: parameters are
-			if f.Regs[*reg] == f.Regs[was] {
-				break
-			}
-		}
-	}
-}
-
 // eachChanged goes through modules of which a function was built by layer 12,
 // and then changed in up to three places.
 func eachChanged(seed int64, do func(what string, r *rand.Rand, m api.Module, f int)) {
@@ -181,7 +137,7 @@ func eachChanged(seed int64, do func(what string, r *rand.Rand, m api.Module, f 
 		for changes := range 4 {
 			g := sample.Copy(m.Funcs[f])
 			for range changes {
-				change(r, g)
+				sample.Change(r.Intn, g)
 			}
 			do(fmt.Sprint(what, ", changes: ", changes), r, sample.With(m, f, g), f)
 		}

@@ -1,7 +1,6 @@
 package proper_test
 
 import (
-	"fmt"
 	"math/rand"
 	"reflect"
 	"slices"
@@ -90,21 +89,11 @@ func unchanged(t *testing.T, what string, m, was api.Module) {
 // eachBuilt goes through modules of which a function was built by layer 12.
 func eachBuilt(seed int64, do func(what string, r *rand.Rand, m api.Module, f int)) {
 	r := rand.New(rand.NewSource(seed))
-	sample.EachPlain(r.Intn, func(what string, m api.Module, f int) {
-		if g, err := ssa.Build(m, f); err == nil {
-			do(what, r, sample.With(m, f, g), f)
-		}
-	})
+	sample.EachBuilt(r.Intn, ssa.Build, func(what string, m api.Module, f int) { do(what, r, m, f) })
 }
 
 // eachOdd goes through modules of any functions, proper or not.
 func eachOdd(seed int64, do func(what string, r *rand.Rand, m api.Module)) {
 	r := rand.New(rand.NewSource(seed))
-	for i := range 6000 {
-		m := module(sample.Odd(r.Intn))
-		if r.Intn(2) == 0 {
-			m.Funcs = append(m.Funcs, sample.Odd(r.Intn))
-		}
-		do(fmt.Sprint("module ", i), r, m)
-	}
+	sample.EachOdd(r.Intn, func(what string, m api.Module) { do(what, r, m) })
 }

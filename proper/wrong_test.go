@@ -3,7 +3,6 @@ package proper_test
 import (
 	"errors"
 	"fmt"
-	"math"
 	"slices"
 	"testing"
 
@@ -13,13 +12,12 @@ import (
 	"fettle/sample"
 )
 
+// form tells of the form as what builds a function does, but builds none.
+var form = sample.Builder(func(m api.Module, f int) (api.Func, error) { return api.Func{}, proper.Form(m, f) })
+
 // P13.1: no such function.
 func TestNoSuchFunc(t *testing.T) {
-	for _, m := range []api.Module{{}, {Funcs: []api.Func{}}, module(sample.Sum()), module(sample.Quiet(2), straight(1, 1, 0), sample.Endless())} {
-		for _, f := range sample.Beyond(len(m.Funcs)) {
-			formIs(t, fmt.Sprint(len(m.Funcs), " functions"), m, f, api.ErrArg)
-		}
-	}
+	form.RefusesNone(t, sample.Quiet(2), straight(1, 1, 0), sample.Endless())
 }
 
 // apart is a function with blocks of these Tos, of no registers; the first one
@@ -57,52 +55,11 @@ func TestNotReached(t *testing.T) {
 	}
 }
 
-// notProper are functions that aren't.
-func notProper() []api.Func {
-	ofTooFew := round([2]int{1, 1}, [2]int{1, 1})
-	ofTooFew.Blocks[1].Phis[1].Args = []int{1}
-	ofAnother := round([2]int{1, 0}, [2]int{1, 1})
-	ofNothing := straight(1, 1, 0)
-	ofNothing.Blocks[0].Phis = []api.Phi{phi(0, 0)}
-	return []api.Func{
-		ofTooFew, ofAnother, ofNothing,
-		{},
-		function(0, 0, []int{7}, block(giveBack(-1))),
-		function(9, 0, ints(9), block(giveBack(-1))),
-		straight(0, 1, 1),
-		straight(0, 1, -1),
-		straight(0, 1, 0, out(math.MinInt)),
-		straight(0, 1, 0, op(api.OpCopy, -1, 0)),
-		straight(0, 1, 0, op(19, 0, 0)),
-		straight(0, 1, 0, call(9, 0)),
-		function(0, 0, nil, block(jump(1))),
-		function(0, 0, nil, block(jump(0))),
-		function(0, 0, nil, block(jump(1)), block(jump(2)), block(jump(3))),
-		sample.Quiet(api.MaxRegs + 1),
-		straight(1, 1, 0, slices.Repeat([]api.Instr{out(0)}, api.MaxIns)...),
-		apart(slices.Repeat([][]int{{1}}, api.MaxBlocks)...),
-	}
-}
-
 // P13.1, R1: modules that aren't proper are told as check.Module tells them,
 // whatever the function that is asked for: the one at fault, another one, one
 // that is of no such form itself, or one that isn't there.
 func TestNotProper(t *testing.T) {
-	for i, f := range notProper() {
-		for _, m := range []api.Module{module(f), module(straight(1, 1, 0), f), module(sample.Sum(), f, straight(1, 1, 0), f), module(apart(nil), f)} {
-			want := check.Module(m)
-			if want == nil {
-				t.Error("proper: ", i)
-			}
-			for _, f := range append(sample.Beyond(len(m.Funcs)), 0, len(m.Funcs)-1) {
-				formIs(t, fmt.Sprint("not proper ", i), m, f, want)
-			}
-		}
-	}
-	many := module(slices.Repeat([]api.Func{straight(1, 1, 0)}, api.MaxFuncs+1)...)
-	for _, f := range append(sample.Beyond(len(many.Funcs)), 0, 7, len(many.Funcs)-1) {
-		formIs(t, "too many functions", many, f, api.ErrLarge)
-	}
+	form.RefusesAs(t, check.Module, sample.NotProper(), straight(1, 1, 0), sample.Sum(), apart(nil))
 }
 
 // P13.1, R1: of several faults the one is told that comes first there: blocks

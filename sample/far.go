@@ -1,25 +1,6 @@
 package sample
 
-import (
-	"strconv"
-
-	"fettle/api"
-)
-
-// EachPlain goes through the functions of any plain modules, and then through
-// functions of many blocks, over few registers.
-func EachPlain(pick Pick, by func(what string, m api.Module, f int)) {
-	for i := range 900 {
-		m := Plain(pick)
-		for f := range m.Funcs {
-			by("module "+strconv.Itoa(i)+", function "+strconv.Itoa(f), m, f)
-		}
-	}
-	for i := range 900 {
-		blocks := api.MaxBlocks - pick(api.MaxBlocks-1)/(1+i%4)
-		by("far "+strconv.Itoa(i), Module(Far(pick, blocks)), 0)
-	}
-}
+import "fettle/api"
 
 // Far is a plain function of so many blocks, two at least, over few registers.
 // They lead to the next one most often, else to one that is near, or any.

@@ -1,9 +1,10 @@
 package sample
 
-// Test is what a tally asks of a test.
+// Test is what is asked of a test.
 type Test interface {
 	Helper()
 	Error(args ...any)
+	Fatal(args ...any)
 }
 
 // Tally counts what any modules were like, so that none of it is missed.
@@ -22,6 +23,16 @@ func (n Tally) Enough(t Test, of ...string) {
 	for _, what := range of {
 		if n[what] < 100 {
 			t.Error("too few ", what, ": ", n)
+		}
+	}
+}
+
+// Never holds that none of these was counted.
+func (n Tally) Never(t Test, of ...string) {
+	t.Helper()
+	for _, what := range of {
+		if n[what] > 0 {
+			t.Error(what, ": ", n)
 		}
 	}
 }

@@ -190,11 +190,11 @@ func TestAny(t *testing.T) {
 		}
 		want := wantOf(m, f)
 		if isTooLarge(want) {
-			refused(t, what, m, f, api.ErrLarge)
+			build.Refuses(t, what, m, f, api.ErrLarge)
 			seen.Add("too large", true)
 			return
 		}
-		is(t, what, m, f, want)
+		build.Is(t, what, m, f, want)
 		seen.Add("without phis", !slices.ContainsFunc(want.Blocks, func(b api.Block) bool { return len(b.Phis) > 0 }))
 		seen.Add("zeros", want.Params < len(want.Regs) && len(want.Blocks[0].Ins) > 1 && same(want.Blocks[0].Ins[0], constant(want.Params, 0)))
 		seen.Add("fewer blocks", len(want.Blocks) < len(m.Funcs[f].Blocks))
@@ -240,7 +240,7 @@ func eachOfFour(by func(what string, f api.Func)) {
 func TestAllOfFour(t *testing.T) {
 	eachOfFour(func(what string, f api.Func) {
 		if !t.Failed() {
-			builds(t, what, f, wantOf(module(f), 0))
+			build.Builds(t, what, f, wantOf(module(f), 0))
 		}
 	})
 }
@@ -274,58 +274,27 @@ func TestStaysProper(t *testing.T) {
 	})
 }
 
-// doesTheSame holds that what is done by a module's f-th function is done by
-// another's, with MaxRegs more steps for each; it tells what was done by both.
-func doesTheSame(t *testing.T, what string, m, n api.Module, f int, args []int64) (want, got api.Outcome) {
-	t.Helper()
-	want, err := run.Run(m, f, args, 1000)
-	if err != nil || !want.Done {
-		return api.Outcome{}, api.Outcome{}
-	}
-	got, err = run.Run(n, f, args, want.Steps*(1+api.MaxRegs))
-	alike := got
-	alike.Steps = want.Steps
-	if err != nil || !same(alike, want) || got.Steps < want.Steps {
-		t.Errorf("%s, %v: %v, %v, want %v", what, args, got, err, want)
-	}
-	return want, got
-}
-
-// P12.3: with the new function in its place, the module does the same: that
-// function, and whichever calls it.
+// P12.3: with the new function in its place, the module does the same, with
+// MaxRegs more steps for each: that function, and whichever calls it.
 func TestDoesTheSame(t *testing.T) {
 	seen := sample.Tally{}
 	eachBuilt(3, func(what string, r *rand.Rand, m api.Module, f int, g api.Func) {
-		n := sample.With(m, f, g)
-		for from := range m.Funcs {
-			was, o := doesTheSame(t, fmt.Sprintf("%s, from %d", what, from), m, n, from, sample.Args(r.Intn, m.Funcs[from]))
-			seen.Add("done", o.Done)
-			seen.Add("trapped", o.Trap != 0)
-			seen.Add("returned", o.Value != 0)
-			seen.Add("stored", o.Memory != [api.Words]int64{})
-			seen.Add("put out", len(o.Out) > 0)
-			seen.Add("more steps", o.Steps > was.Steps)
-			seen.Add("long", was.Steps > 40)
-		}
+		seen.Tries(t, what, run.Run, r.Intn, m, sample.With(m, f, g), api.MaxRegs)
 	})
-	seen.Enough(t, "done", "trapped", "returned", "stored", "put out", "more steps", "long")
+	seen.EnoughTries(t)
+	seen.Enough(t, "more steps")
+	seen.Never(t, "fewer steps")
 }
 
 // P12.3: so it does with all functions built, each of the module as it was.
 func TestAllBuilt(t *testing.T) {
 	r := rand.New(rand.NewSource(4))
+	seen := sample.Tally{}
 	for i := range 900 {
 		m := sample.Plain(r.Intn)
-		n := m
-		for f := range m.Funcs {
-			if g, err := ssa.Build(m, f); err == nil {
-				n = sample.With(n, f, g)
-			}
-		}
-		for f := range m.Funcs {
-			doesTheSame(t, fmt.Sprintf("module %d, function %d", i, f), m, n, f, sample.Args(r.Intn, m.Funcs[f]))
-		}
+		seen.Tries(t, fmt.Sprint("module ", i), run.Run, r.Intn, m, build.All(m), api.MaxRegs)
 	}
+	seen.Enough(t, "done", "trapped", "returned", "put out")
 }
 
 // where is what makes a register, as far ahead as where it is named.
@@ -390,57 +359,14 @@ func TestMadeOnce(t *testing.T) {
 
 // P12.2, R2: what is handed in stays as it is.
 func TestHandedInStays(t *testing.T) {
-	eachPlain(6, func(what string, r *rand.Rand, m api.Module, f int) {
-		was := sample.CopyModule(m)
-		ssa.Build(m, f)
-		unchanged(t, what, m, was)
-	})
-	r := rand.New(rand.NewSource(7))
-	for range 3000 {
-		m := module(sample.Odd(r.Intn))
-		was := sample.CopyModule(m)
-		ssa.Build(m, 0)
-		unchanged(t, "any function", m, was)
-	}
-}
-
-// apart holds that no two of these lists share any, however far their memory
-// goes: what is written over one isn't seen in another one.
-func apart[E any](t *testing.T, what string, lists [][]E, write func(e *E, n int), has func(e E, n int) bool) {
-	t.Helper()
-	for n, l := range lists {
-		l = l[:cap(l)]
-		for i := range l {
-			write(&l[i], n)
-		}
-	}
-	for n, l := range lists {
-		if slices.ContainsFunc(l[:cap(l)], func(e E) bool { return !has(e, n) }) {
-			t.Errorf("%s: list %d shares with another one", what, n)
-		}
-	}
+	eachPlain(6, func(what string, r *rand.Rand, m api.Module, f int) { build.Leaves(t, what, m, f) })
+	sample.EachOdd(rand.New(rand.NewSource(7)).Intn, func(what string, m api.Module) { build.Leaves(t, what, m, 0) })
 }
 
 // P12.2, R2: what is told is new memory: written over it changes neither what
 // was handed in nor what was told before, nor another list of the same answer.
 func TestToldIsNew(t *testing.T) {
-	eachBuilt(8, func(what string, r *rand.Rand, m api.Module, f int, g api.Func) {
-		was, before := sample.CopyModule(m), told(g)
-		again := built(t, what, m, f)
-		apart(t, what+", numbers", numbersOf(again), func(e *int, n int) { *e = -n }, func(e, n int) bool { return e == -n })
-		var phis [][]api.Phi
-		var ins [][]api.Instr
-		for _, b := range again.Blocks {
-			phis, ins = append(phis, b.Phis), append(ins, b.Ins)
-		}
-		apart(t, what+", phis", phis, func(e *api.Phi, n int) { e.Dst = n }, func(e api.Phi, n int) bool { return e.Dst == n })
-		apart(t, what+", instructions", ins, func(e *api.Instr, n int) { e.Op = n }, func(e api.Instr, n int) bool { return e.Op == n })
-		clear(again.Blocks[:cap(again.Blocks)])
-		unchanged(t, what, m, was)
-		if now := told(g); now != before {
-			t.Errorf("%s: told\n%s\nnow it is\n%s", what, before, now)
-		}
-	})
+	eachBuilt(8, func(what string, r *rand.Rand, m api.Module, f int, g api.Func) { build.TellsAnew(t, what, m, f) })
 }
 
 // P12.2, R2: a function that needs nothing done is told in new memory, too,
@@ -450,7 +376,7 @@ func TestSharedHandedIn(t *testing.T) {
 	f := function(2, api.TypeInt, shared[:2], block(jump(1), op(api.OpAdd, 0, shared[:2]...), store(1, 0)), block(giveBack(0)))
 	f.Blocks[0].Term.To = shared[:1]
 	f.Blocks[0].Ins[1].Args = shared[1:3]
-	builds(t, "shared", f, function(2, api.TypeInt, ints(3), block(jump(1), add(2, 1, 1), store(1, 1)), block(giveBack(2))))
+	build.Builds(t, "shared", f, function(2, api.TypeInt, ints(3), block(jump(1), add(2, 1, 1), store(1, 1)), block(giveBack(2))))
 	if !slices.Equal(shared, []int{1, 1, 1, 1}) {
 		t.Error("handed in, now it is ", shared)
 	}
@@ -473,15 +399,11 @@ func TestSpotIsNew(t *testing.T) {
 func TestOdd(t *testing.T) {
 	r := rand.New(rand.NewSource(9))
 	seen := sample.Tally{}
-	for i := range 6000 {
-		m := module(sample.Odd(r.Intn))
-		if r.Intn(2) == 0 {
-			m.Funcs = append(m.Funcs, sample.Odd(r.Intn))
-		}
+	sample.EachOdd(r.Intn, func(what string, m api.Module) {
 		if err := check.Plain(m); err != nil {
-			refused(t, fmt.Sprint("module ", i), m, r.Intn(4)-1, err)
+			build.Refuses(t, what, m, r.Intn(4)-1, err)
 			seen.Add("refused", true)
 		}
-	}
+	})
 	seen.Enough(t, "refused")
 }

@@ -1,8 +1,6 @@
 package ssa_test
 
 import (
-	"fmt"
-	"math"
 	"slices"
 	"testing"
 
@@ -13,59 +11,19 @@ import (
 
 // P12.1, R3: no such function.
 func TestNoSuchFunc(t *testing.T) {
-	for _, m := range []api.Module{{}, {Funcs: []api.Func{}}, module(sample.Sum()), module(sample.Quiet(2), sample.Sum(), sample.Endless())} {
-		for _, f := range sample.Beyond(len(m.Funcs)) {
-			refused(t, fmt.Sprint(len(m.Funcs), " functions"), m, f, api.ErrArg)
-		}
-	}
-}
-
-// notPlain are functions that make a module not plain.
-func notPlain() []api.Func {
-	ofPhis := sample.Sum()
-	ofPhis.Blocks[1].Phis = []api.Phi{phi(1, 1, 2)}
-	ofTooFew := sample.Sum()
-	ofTooFew.Blocks[1].Phis = []api.Phi{phi(1, 1)}
-	ofNothing := straight(1, 1, 0)
-	ofNothing.Blocks[0].Phis = []api.Phi{phi(0)}
-	beside := function(0, 0, ints(1), block(giveBack(-1)), withPhis(block(giveBack(-1)), phi(0)))
-	return []api.Func{
-		ofPhis, ofTooFew, ofNothing, beside,
-		{},
-		function(0, 0, []int{7}, block(giveBack(-1))),
-		function(9, 0, ints(9), block(giveBack(-1))),
-		straight(0, 1, 1),
-		straight(0, 1, -1),
-		straight(0, 1, 0, out(math.MinInt)),
-		straight(0, 1, 0, dup(-1, 0)),
-		straight(0, 1, 0, op(19, 0, 0)),
-		straight(0, 1, 0, call(9, 0)),
-		function(0, 0, nil, block(jump(1))),
-		function(0, 0, nil, block(jump(0))),
-		sample.Quiet(api.MaxRegs + 1),
-		straight(0, 1, 0, slices.Repeat([]api.Instr{out(0)}, api.MaxIns)...),
-	}
+	build.RefusesNone(t, sample.Quiet(2), sample.Sum(), sample.Endless())
 }
 
 // P12.1, R1, R3: modules that aren't plain are refused as check.Plain does,
 // whatever the function that is asked for: the one at fault, another one, one
 // that would get too large, or one that isn't there.
 func TestNotPlain(t *testing.T) {
-	for i, f := range notPlain() {
-		for _, m := range []api.Module{module(f), module(sample.Sum(), f), module(f, sample.Sum(), f), module(growing(api.MaxIns), f)} {
-			want := check.Plain(m)
-			if want == nil {
-				t.Error("plain: ", i)
-			}
-			for _, f := range append(sample.Beyond(len(m.Funcs)), 0, len(m.Funcs)-1) {
-				refused(t, fmt.Sprint("not plain ", i), m, f, want)
-			}
-		}
-	}
-	many := module(slices.Repeat([]api.Func{sample.Quiet(1)}, api.MaxFuncs+1)...)
-	for _, f := range append(sample.Beyond(len(many.Funcs)), 0, 7, len(many.Funcs)-1) {
-		refused(t, "too many functions", many, f, api.ErrLarge)
-	}
+	ofPhis := sample.Sum()
+	ofPhis.Blocks[1].Phis = []api.Phi{phi(1, 1, 2)}
+	ofNothing := straight(1, 1, 0)
+	ofNothing.Blocks[0].Phis = []api.Phi{phi(0)}
+	beside := function(0, 0, ints(1), block(giveBack(-1)), withPhis(block(giveBack(-1)), phi(0)))
+	build.RefusesAs(t, check.Plain, append(sample.NotProper(), ofPhis, ofNothing, beside), sample.Sum(), growing(api.MaxIns+1))
 }
 
 // growing is a function that comes to so many instructions and ends, of which
@@ -89,7 +47,7 @@ func round(params, many int, besides ...api.Instr) api.Func {
 // instructions and ends.
 func within(t *testing.T, what string, f api.Func, regs, items int) {
 	t.Helper()
-	g := built(t, what, module(f), 0)
+	g := build.Built(t, what, module(f), 0)
 	count := len(g.Blocks)
 	for _, b := range g.Blocks {
 		count += len(b.Phis) + len(b.Ins)
@@ -105,10 +63,10 @@ func tooLarge(t *testing.T, what string, f api.Func) {
 	if err := check.Plain(module(f)); err != nil {
 		t.Errorf("%s: not plain: %v", what, err)
 	}
-	refused(t, what, module(f), 0, api.ErrLarge)
-	refused(t, what+", and another one", module(sample.Sum(), f), 1, api.ErrLarge)
-	built(t, what+", and another one", module(sample.Sum(), f), 0)
-	refused(t, what+", but no such function", module(f), 1, api.ErrArg)
+	build.Refuses(t, what, module(f), 0, api.ErrLarge)
+	build.Refuses(t, what+", and another one", module(sample.Sum(), f), 1, api.ErrLarge)
+	build.Built(t, what+", and another one", module(sample.Sum(), f), 0)
+	build.Refuses(t, what+", but no such function", module(f), 1, api.ErrArg)
 }
 
 // P12.1: MaxIns phis, instructions and ends, and one more.
