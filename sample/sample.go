@@ -1,6 +1,7 @@
 // Package sample makes modules for the tests of all packages: piece by piece,
-// and any ones by the numbers that are picked. No layer stands on it, and it
-// stands on api alone, so that a test may ask it about any layer.
+// and any ones by the numbers that are picked; and it holds what many of them
+// hold, of the calls that they hand to it. No layer stands on it, and it stands
+// on api alone, so that a test may ask it about any layer.
 package sample
 
 import (
